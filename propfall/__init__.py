@@ -1,0 +1,1 @@
+"""Propfall: boards on props that give way."""
