@@ -1,7 +1,9 @@
 """What may be handed in with a plank: weights, places, lots, props, and their refusals."""
 
-from propfall.errors import NoLot, NoPlace, NoProp, NoWeights
-from propfall.fractions import is_below, is_fraction, is_from_nought, is_pair, is_whole, of_whole
+from propfall.errors import NoLoadings, NoLot, NoPlace, NoProp, NoWeight, NoWeights
+from propfall.fractions import is_below, is_from_nought, is_pair, is_whole, of_whole
+
+MOST_LOADINGS = 8
 
 
 def is_place(plank, thing):
@@ -9,27 +11,55 @@ def is_place(plank, thing):
     return is_from_nought(thing) and not is_below(of_whole(plank.length()), thing)
 
 
+def is_above_nought(thing):
+    """Tell whether a thing of any kind is a fraction above nought."""
+    return is_from_nought(thing) and thing[0] > 0
+
+
 def _is_weight(plank, thing):
     """Tell whether a thing of any kind is a weight at a place on the plank."""
     if not is_pair(thing):
         return False
     place, weight = thing
-    return is_place(plank, place) and is_fraction(weight) and weight[0] > 0
+    return is_place(plank, place) and is_above_nought(weight)
+
+
+def _fault_in_weights(plank, thing):
+    """Tell, of a thing of any kind, the place of the first that is no weight, -1 of no list, None of weights."""
+    if type(thing) is not list:
+        return -1
+    for at, weight in enumerate(thing):
+        if not _is_weight(plank, weight):
+            return at
+    return None
 
 
 def check_weights(plank, weights):
     """Refuse what are no weights on the plank."""
-    if type(weights) is not list:
-        raise NoWeights(-1)
-    for at, weight in enumerate(weights):
-        if not _is_weight(plank, weight):
-            raise NoWeights(at)
+    fault = _fault_in_weights(plank, weights)
+    if fault is not None:
+        raise NoWeights(fault)
+
+
+def check_loadings(plank, loadings):
+    """Refuse what are no loadings of the plank."""
+    if type(loadings) is not list or not 1 <= len(loadings) <= MOST_LOADINGS:
+        raise NoLoadings(-1)
+    for at, loading in enumerate(loadings):
+        if _fault_in_weights(plank, loading) is not None:
+            raise NoLoadings(at)
 
 
 def check_place(plank, place):
     """Refuse what is no place on the plank."""
     if not is_place(plank, place):
         raise NoPlace(place)
+
+
+def check_weight(weight):
+    """Refuse what is no further weight above nought."""
+    if not is_above_nought(weight):
+        raise NoWeight()
 
 
 def is_prop_of(lot, thing):
@@ -61,6 +91,12 @@ def lot_of(plank, lot):
     if not is_lot_of(all_props(plank), lot):
         raise NoLot()
     return lot
+
+
+def check_lot_of_some(plank, lot):
+    """Refuse what is no lot, or the bare one."""
+    if not is_lot_of(all_props(plank), lot) or not lot:
+        raise NoLot()
 
 
 def check_prop(lot, prop):

@@ -2,6 +2,8 @@
 
 from math import gcd
 
+NOUGHT = (0, 1)
+
 
 def is_whole(thing):
     """Tell whether a thing of any kind is a whole number."""
@@ -68,3 +70,36 @@ def over(one, other):
 def is_below(one, other):
     """Tell whether one fraction is less than the other."""
     return one[0] * other[1] < other[0] * one[1]
+
+
+def _merged(one, other):
+    """Tell the unlike ones of two rising lists of fractions, rising."""
+    both = []
+    at = 0
+    for number in one:
+        while at < len(other) and is_below(other[at], number):
+            both.append(other[at])
+            at += 1
+        if at < len(other) and other[at] == number:
+            at += 1
+        both.append(number)
+    return both + other[at:]
+
+
+def rising(numbers):
+    """Tell the unlike ones of a list of fractions, rising."""
+    # Tuples rise otherwise than the fractions that they are.
+    if len(numbers) < 2:
+        return list(numbers)
+    half = len(numbers) // 2
+    return _merged(rising(numbers[:half]), rising(numbers[half:]))
+
+
+def greater(one, other):
+    """Tell the greater one of two fractions."""
+    return other if is_below(one, other) else one
+
+
+def lesser(one, other):
+    """Tell the lesser one of two fractions."""
+    return other if is_below(other, one) else one

@@ -1,4 +1,8 @@
-"""Rows of givings, between two rests that stand whatever lies on them or on a whole plank."""
+"""Rows of givings: on a whole plank, by whatever tells which props of a lot are overlaid, or between two rests.
+
+What is called bearing here is a Bearing, or something else that tells by its
+method overlaid which props of a lot could go next.
+"""
 
 from propfall.checks import is_prop_of
 
@@ -8,33 +12,35 @@ def without(lot, prop):
     return tuple([other for other in lot if other != prop])
 
 
-def givings_between(bearing, left, lot, right):
-    """Tell a whole row of givings of a lot between two rests."""
-    row = []
-    overlaid = bearing.overlaid_between(left, lot, right)
-    while overlaid:
-        row.append(overlaid[0])
-        lot = without(lot, overlaid[0])
-        overlaid = bearing.overlaid_between(left, lot, right)
-    return row
-
-
-def left_between(bearing, left, lot, right):
-    """Tell the lot that is left of a lot between two rests, whatever gives way when."""
-    row = givings_between(bearing, left, lot, right)
-    return tuple([prop for prop in lot if prop not in row])
+def but(lot, props):
+    """Tell the lot of those of a lot that are none of some props."""
+    return tuple([prop for prop in lot if prop not in props])
 
 
 def givings_from(bearing, lot):
-    """Tell a whole row of givings from a lot on."""
-    rests = bearing.rests(lot)
-    return givings_between(bearing, rests[0], lot, rests[-1])
+    """Tell a whole row of givings from a lot on, of all that could go next the first one each time."""
+    row = []
+    overlaid = bearing.overlaid(lot)
+    while overlaid:
+        row.append(overlaid[0])
+        lot = without(lot, overlaid[0])
+        overlaid = bearing.overlaid(lot)
+    return row
 
 
 def left_of(bearing, lot):
     """Tell the greatest lot within a lot that stands by itself."""
-    rests = bearing.rests(lot)
-    return left_between(bearing, rests[0], lot, rests[-1])
+    return but(lot, givings_from(bearing, lot))
+
+
+def left_between(bearing, left, lot, right):
+    """Tell the lot that is left of a lot between two rests, whatever gives way when."""
+    overlaid = bearing.overlaid_between(left, lot, right)
+    while overlaid:
+        # What is overlaid stays so while others go, so all may go at once.
+        lot = but(lot, overlaid)
+        overlaid = bearing.overlaid_between(left, lot, right)
+    return lot
 
 
 def are_unlike_props(lot, thing):
@@ -63,7 +69,12 @@ def fault_in_row(bearing, lot, thing):
     at = first_that_bears(bearing, lot, thing)
     if at is not None:
         return ("bears", at)
-    overlaid = bearing.overlaid(tuple([prop for prop in lot if prop not in thing]))
+    overlaid = bearing.overlaid(but(lot, thing))
     if overlaid:
         return ("more", overlaid[0])
     return None
+
+
+def is_whole_row(bearing, lot, thing):
+    """Tell whether a thing of any kind is a whole row of givings from a lot on."""
+    return fault_in_row(bearing, lot, thing) is None

@@ -3,6 +3,7 @@
 import random
 from fractions import Fraction
 
+import plainly
 from plainly import everything, lots_within, pair
 from propfall.planks import Plank
 
@@ -36,6 +37,28 @@ def cases_with_lots(many=60, most_props=4, seed=11):
     """Tell a list of tuples (plank, weights, lot): each plank with each lot of its props."""
     return [(plank, weights, lot) for plank, weights in cases(many, most_props, seed)
             for lot in lots_within(everything(plank))]
+
+
+def tight_cases(many=60, most_props=4, seed=21):
+    """Tell a list of tuples (plank, weights): strengths that do, or nearly so, bends that some lots keep to."""
+    chance = random.Random(seed)
+    found = []
+    for _ in range(many):
+        length = chance.randint(most_props + 2, 14)
+        places = sorted(chance.sample(range(1, length), chance.randint(1, most_props)))
+        weights = [((chance.randint(0, 2 * length), 2), fraction(chance, 1, 4)) for _ in range(chance.randint(2, 6))]
+        weights = [(pair(Fraction(*place)), weight) for place, weight in weights]
+        plank = Plank(length, [(place, (0, 1)) for place in places])
+        laid = plainly.laid(plank, weights, plainly.rests_of(plank, everything(plank)))
+        props = []
+        for prop, place in enumerate(places):
+            factor = chance.choice((Fraction(1), Fraction(1), Fraction(6, 5), Fraction(3, 2), Fraction(2), Fraction(4), Fraction(4, 5)))
+            props.append((place, pair(laid[prop] * factor + chance.choice((0, 0, 0, Fraction(1, 3))))))
+        lot = chance.choice(lots_within(everything(plank)))
+        bends = [plainly.bend(plank, weights, lot, place) for place, _ in weights]
+        bend = pair(max(bends) * chance.choice((1, 1, Fraction(9, 10), Fraction(11, 10))))
+        found.append((Plank(length, props, bend=bend), weights))
+    return found
 
 
 def great_case(strength=(0, 1)):
