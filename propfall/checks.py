@@ -1,9 +1,11 @@
 """What may be handed in with a plank: weights, places, lots, props, and their refusals."""
 
-from propfall.errors import NoLoadings, NoLot, NoPlace, NoProp, NoWeight, NoWeights
-from propfall.fractions import is_below, is_from_nought, is_pair, is_whole, of_whole
+from propfall.errors import NoCart, NoLoadings, NoLot, NoPlace, NoProp, NoWeight, NoWeights
+from propfall.fractions import NOUGHT, is_below, is_from_nought, is_pair, is_whole, of_whole
 
 MOST_LOADINGS = 8
+MOST_AXLES = 4
+MOST_CARTS = 3
 
 
 def is_place(plank, thing):
@@ -103,3 +105,41 @@ def check_prop(lot, prop):
     """Refuse what is no prop of the lot."""
     if not is_prop_of(lot, prop):
         raise NoProp(prop)
+
+
+def _is_axle(thing, ahead):
+    """Tell whether a thing of any kind is an axle farther behind than the one ahead, the first one where None is."""
+    if not is_pair(thing):
+        return False
+    behind, weight = thing
+    if not is_from_nought(behind) or not is_above_nought(weight):
+        return False
+    return behind == NOUGHT if ahead is None else is_below(ahead, behind)
+
+
+def _check_cart(cart):
+    """Refuse what is no cart."""
+    if type(cart) is not list or not 1 <= len(cart) <= MOST_AXLES:
+        raise NoCart(-1)
+    ahead = None
+    for at, axle in enumerate(cart):
+        if not _is_axle(axle, ahead):
+            raise NoCart(at)
+        ahead = axle[0]
+
+
+def check_roll(plank, cart, start, goal):
+    """Refuse what is no cart, or no place to start from or to roll to."""
+    _check_cart(cart)
+    check_place(plank, start)
+    check_place(plank, goal)
+
+
+def check_carts(plank, carts):
+    """Refuse what are no carts with places to start from and to roll to."""
+    if type(carts) is not list or not 1 <= len(carts) <= MOST_CARTS:
+        raise NoCart(-1)
+    if any([type(roll) is not tuple or len(roll) != 3 for roll in carts]):
+        raise NoCart(-1)
+    for cart, start, goal in carts:
+        check_roll(plank, cart, start, goal)

@@ -39,6 +39,10 @@ class Spans:
             self._known[key] = self._found(left, prop, right)
         return self._known[key]
 
+    def of_lot(self, lot):
+        """Tell a list of tuples (prop, spans): where each prop of a lot is overlaid while just the lot stands."""
+        return [(prop, self.spans(left, prop, right)) for left, prop, right in self._bearing.around(lot)]
+
     def _found(self, left, prop, right):
         """Find the spans in which a prop is overlaid."""
         spare = self._bearing.spare(left, prop, right)
