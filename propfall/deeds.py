@@ -23,7 +23,7 @@ class Lying:
         self._bearings = {}
         self._left = {}
 
-    def _bearing(self, lying):
+    def _bearing_of(self, lying):
         """Tell the bearing of the loadings that lie there, a rising tuple of numbers."""
         if lying not in self._bearings:
             weights = [weight for k in lying for weight in self._loadings[k]]
@@ -33,7 +33,7 @@ class Lying:
     def left(self, lying, lot):
         """Tell what is left of a lot under all the loadings that lie there."""
         if (lying, lot) not in self._left:
-            self._left[(lying, lot)] = left_of(self._bearing(lying), lot)
+            self._left[(lying, lot)] = left_of(self._bearing_of(lying), lot)
         return self._left[(lying, lot)]
 
     def first(self):

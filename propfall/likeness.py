@@ -2,9 +2,8 @@
 
 from propfall.bearing import Bearing
 from propfall.checks import all_props, check_place, check_weights, is_lot_of
-from propfall.errors import NoLot, NoStrengths, NoWeights
+from propfall.errors import NoLot, NoWeights
 from propfall.fractions import NOUGHT, lesser, of_whole, plus
-from propfall.planks import are_strengths
 from propfall.pressing import Pressing
 from propfall.rows import left_of
 
@@ -54,8 +53,6 @@ def is_parting(plank, one, other, strengths):
     """Tell whether by such strengths two weights leave unlike lots."""
     check_weights(plank, one)
     check_weights(plank, other)
-    if not are_strengths(strengths, plank.count()):
-        raise NoStrengths()
     strong = plank.strengthened(strengths)
     everything = all_props(plank)
     return left_of(Bearing(strong, one), everything) != left_of(Bearing(strong, other), everything)

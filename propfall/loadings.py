@@ -44,11 +44,11 @@ def rounds(plank, loadings, *, row):
     lying = _asked_row(plank, loadings, row)
     many = 0
     lot = all_props(plank)
-    left = [lot, *_left_by_each(lying, row, lot)][-1]
-    while left != lot:
+    lots = _left_by_each(lying, row, lot)
+    while lots and lots[-1] != lot:
         many += 1
-        lot = left
-        left = _left_by_each(lying, row, lot)[-1]
+        lot = lots[-1]
+        lots = _left_by_each(lying, row, lot)
     return (many, lot)
 
 

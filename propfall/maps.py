@@ -34,7 +34,7 @@ class Map:
         return [there[1] for there in around(LEFT_REST, lot, self._count)
                 if any([low < spot < high for low, high in self._spans[there]])]
 
-    def _left(self, spot):
+    def _left_at(self, spot):
         """Tell the lot that is left where the weight lies at a spot."""
         return left_of(AtSpot(self, spot), self._lot)
 
@@ -45,11 +45,11 @@ class Map:
             # A prop that is overlaid everywhere has stops beyond the walls.
             if is_below(stop, self._start) or is_below(self._end, stop):
                 continue
-            at = self._left(2 * k)
+            at = self._left_at(2 * k)
             if stop == self._end:
                 found.append((stop, at, None))
                 continue
-            behind = self._left(2 * k + 1)
+            behind = self._left_at(2 * k + 1)
             if not found or found[-1][2] != at or at != behind:
                 found.append((stop, at, behind))
         return found

@@ -8,7 +8,7 @@ from propfall.pathways import NONE, Pathways
 from propfall.planks import Plank
 
 MOST_THINGS = 24
-MOST_PRICE = 10 ** 6
+MOST_PRICE = 1000000
 BOUGHT = "bought"
 MENDED = "mended"
 

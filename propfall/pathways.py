@@ -74,7 +74,8 @@ class Pathways:
         found = {(LEFT_REST, other): self._costs.first(other)[0] for other in self._next_nodes(LEFT_REST)}
         for middle in self._nodes:
             # All boards to it are known by now, as they come from the left.
-            for one, price in [(board[0], known) for board, known in found.items() if board[1] == middle]:
+            boards = [(board[0], price) for board, price in found.items() if board[1] == middle]
+            for one, price in boards:
                 for other, dear, _ in self._joints(one, middle):
                     known = found.get((middle, other), price + dear)
                     found[(middle, other)] = min(known, price + dear)
@@ -97,7 +98,7 @@ class Pathways:
             if (LEFT_REST, other) not in prices or prices[(LEFT_REST, other)] > self._costs.first(other)[0]:
                 return False
         for one, middle in prices:
-            if not self._is_end(middle) and middle in self._next_nodes(one):
+            if middle in self._next_nodes(one):
                 for other, dear, _ in self._joints(one, middle):
                     most = prices[(one, middle)] + dear
                     if (middle, other) not in prices or prices[(middle, other)] > most:

@@ -231,6 +231,19 @@ class AgainAndAgain(unittest.TestCase):
         self.assertEqual(again_and_again(PLANK, [], cart=CART, **OVER), (1, [()], ()))
         self.assertEqual(again_and_again(PLANK, [], cart=CART, **BACK), (2, [(1,), ()], ()))
 
+    def test_rolled_back_or_put_at_start_anew(self):
+        plank = Plank(14, [(1, (4, 1)), (2, (4, 1)), (4, (4, 1)), (6, (7, 2)), (10, (3, 1)), (13, (2, 1))])
+        roll = {"cart": [((0, 1), (3, 1)), ((3, 1), (2, 1))], "start": (0, 1), "goal": (14, 1)}
+        self.assertEqual(again_and_again(plank, [], **roll), (2, [(0, 1, 2, 3), ()], ()))
+        self.assertEqual(again_and_again(plank, [], back=True, **roll), (2, [(0, 1, 2, 3), ()], ()))
+        lots = [(0, 1, 2, 3), (0, 1, 2), (0, 1), (0,), ()]
+        self.assertEqual(again_and_again(plank, [], back=False, **roll), (5, lots, ()))
+        plank = Plank(14, [(2, (7, 2)), (3, (3, 2)), (6, (2, 1)), (9, (5, 2)), (11, (4, 1)), (12, (2, 1))])
+        roll["cart"] = [((0, 1), (2, 1)), ((3, 1), (1, 3)), ((7, 2), (2, 1))]
+        weights = [((9, 1), (1, 2))]
+        self.assertEqual(again_and_again(plank, weights, **roll), (3, [(0, 4, 5), (4, 5), ()], ()))
+        self.assertEqual(again_and_again(plank, weights, back=False, **roll), (2, [(0, 4, 5), ()], ()))
+
     def test_roll_by_roll(self):
         many = set()
         chance = random.Random(78)
